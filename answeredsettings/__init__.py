@@ -1,0 +1,1 @@
+"""Settings of two ends that hold when sent, when heard or when answered."""
