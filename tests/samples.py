@@ -58,3 +58,63 @@ def one_way(setting, use, owner_rules=None, maker_rules=None, most=1):
 def example():
     """The pact of the examples of the document."""
     return one_way(size(), "heard", {"back": []})
+
+
+def two_way(left_changes=((1, 0), (0, 1)), right_changes=((0, 1), (1, 0))):
+    """A pact in which each end owns a setting, the left one a size and the right one a room."""
+    left = End({"a": size(left_changes, "sent", 2)}, {"b": "heard"}, {}, 1)
+    right = End({"b": room(right_changes, "open", 2, 0)}, {"a": "answered"}, {"back": []}, 1)
+    return Pact(left, right)
+
+
+def wide():
+    """A pact with 26626 watched states."""
+    left = End({"a": size([(1, 2), (2, 0)], "sent")}, {"b": "heard"}, {}, 1)
+    right = End({"b": room([(1, 2), (2, 1)], "open")}, {"a": "answered"}, {"back": []}, 1)
+    return Pact(left, right)
+
+
+def two_at_one():
+    """A pact in which the left end owns two settings."""
+    left = End({"b": table([(0, 1), (1, 0)], "answered", 2, 0), "a": size([(0, 1)], "sent", 2, 0)}, {}, {}, 2)
+    return Pact(left, End({}, {"a": "heard", "b": "answered"}, {}, 1))
+
+
+def crowded():
+    """A pact with more than 30000 watched states."""
+    left = End({"a": size(), "c": table()}, {"b": "heard", "d": "heard"}, {}, 3)
+    right = End({"b": room(), "d": size()}, {"a": "heard", "c": "heard"}, {}, 3)
+    return Pact(left, right)
+
+
+def small_pacts():
+    """A dict of pacts with few states: each sort, hold and use, rules that bar deeds, one to three open changes."""
+    found = {"example": example(), "no words": Pact(End({}, {}, {}, 1), End({}, {}, {}, 3))}
+    for make in (size, table, room):
+        for hold in ("sent", "answered", "open"):
+            for use in ("heard", "answered"):
+                if (make, hold) != (table, "open"):
+                    found[f"{make.__name__} {hold} {use}"] = one_way(make(hold=hold), use)
+    found["no changes"] = one_way(size([]), "heard")
+    found["two open"] = one_way(size([(0, 1), (1, 0)], "open", 2, 0), "heard", most=2)
+    found["three open"] = one_way(table([(0, 1), (1, 0)], "answered", 2, 0), "heard", {"back": []}, most=3)
+    found["two open, a room"] = one_way(room([(0, 1), (1, 0)], "sent", 2, 0), "heard", most=2)
+    found["greater ones"] = one_way(size([(0, 3), (3, 1)], "sent", 4, 0), "heard")
+    found["no frames while owed"] = one_way(size(), "heard", {}, {"frame": [(0, 0)], "answer": [(0, 1)]})
+    found["no answers"] = one_way(size(), "heard", {}, {"answer": []})
+    found["dones while open"] = one_way(room(), "heard", {"done": [(1, 0)]}, {})
+    found["nothing"] = one_way(size(), "heard", {"set": [], "back": [], "done": []}, {"frame": [], "answer": []})
+    found["two ways"] = two_way()
+    found["two at one"] = two_at_one()
+    return found
+
+
+def move(text):
+    """A move from a text like "left set a 2"."""
+    name, *parts = text.split()
+    return (name, tuple(int(part) if part.isdigit() else part for part in parts))
+
+
+def weaving(text):
+    """A weaving from moves with "; " between them."""
+    return [move(row) for row in text.split("; ")] if text else []

@@ -1,0 +1,37 @@
+"""The examples of the document, as far as their modules are there."""
+
+import doctest
+import unittest
+
+EXAMPLES = '''
+>>> from answeredsettings.ends import End
+>>> from answeredsettings.machine import Machine
+>>> from answeredsettings.pacts import Pact
+>>> from answeredsettings.settings import Setting
+>>> owner = End({"a": Setting("size", 3, 1, [(1, 2), (2, 1)], "answered")}, {}, {"back": []}, 1)
+>>> pact = Pact(owner, End({}, {"a": "heard"}, {}, 1))
+>>> machine = Machine(pact)
+>>> verdicts = [machine(("left", ("set", "a", 2))), machine(("right", ("hear",))), machine(("right", ("frame", "a", 2)))]
+>>> [verdicts, machine(("left", ("hear",)))]
+[[None, None, None], ('a', 2, 1, 'refused')]
+
+>>> from answeredsettings.ends import End
+>>> from answeredsettings.pacts import Pact
+>>> from answeredsettings.settings import Setting
+>>> from answeredsettings.verdicts import is_sound, offences
+>>> owner = End({"a": Setting("size", 3, 1, [(1, 2), (2, 1)], "answered")}, {}, {"back": []}, 1)
+>>> pact = Pact(owner, End({}, {"a": "heard"}, {}, 1))
+>>> [is_sound(pact), offences(pact), is_sound(pact.with_end("right", End({}, {"a": "answered"}, {}, 1)))]
+[False, [('a', 2, 1, 'refused')], True]
+'''
+
+
+class ExamplesTest(unittest.TestCase):
+    def test_examples(self):
+        test = doctest.DocTestParser().get_doctest(EXAMPLES, {}, "examples", None, 0)
+        told = doctest.DocTestRunner().run(test)
+        self.assertEqual((told.failed, told.attempted), (0, 16))
+
+
+if __name__ == "__main__":
+    unittest.main()
