@@ -56,12 +56,13 @@ class Board:
         """How many frames to sizes and tables are in the lanes of a state."""
         return len([letter for letter in state[2] + state[3] if self.is_watched(letter)])
 
+    def bare_steps(self, state):
+        """The list of the steps of a state but for the sends of frames to sizes and tables."""
+        return [row for row in self.steps(state) if not self.is_watched(row[0][1])]
+
     def watched_steps(self, state):
         """The list of the steps of a watched state that lead to watched states."""
-        rows = self.steps(state)
-        if self.under_way(state) == 0:
-            return rows
-        return [row for row in rows if not self.is_watched(row[0][1])]
+        return self.steps(state) if self.under_way(state) == 0 else self.bare_steps(state)
 
     def step(self, state, move):
         """The state behind a move and the verdict, None for any value that is no move that can be made."""

@@ -64,8 +64,8 @@ class End:
         part = wrong_part(settings, uses, rules, most)
         if part is not None:
             raise BadEnd(part)
-        self._settings = dict(settings)
-        self._uses = dict(uses)
+        self._settings = {word: settings[word] for word in sorted(list(settings), key=str)}
+        self._uses = {word: uses[word] for word in sorted(list(uses), key=str)}
         self._rules = {deed: {pair: True for pair in rules[deed]} for deed in rules}
         self._most = most
 
@@ -76,11 +76,11 @@ class End:
 
     def words(self):
         """The words of its own settings, ascending."""
-        return sorted(list(self._settings), key=str)
+        return list(self._settings)
 
     def used_words(self):
         """The words of the settings of the other end, ascending."""
-        return sorted(list(self._uses), key=str)
+        return list(self._uses)
 
     def setting(self, word):
         """Its own setting with this word."""

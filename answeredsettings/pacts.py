@@ -34,6 +34,7 @@ class Pact:
             raise BadPact(part)
         self._left = left
         self._right = right
+        self._owners = {word: name for name, end in (("left", left), ("right", right)) for word in end.words()}
 
     @property
     def left(self):
@@ -57,15 +58,13 @@ class Pact:
 
     def words(self):
         """All words of settings, ascending."""
-        return sorted(self._left.words() + self._right.words(), key=str)
+        return sorted(list(self._owners), key=str)
 
     def owner(self, word):
         """The name of the end that owns the setting with this word."""
-        if is_one_of(word, self._left.words()):
-            return "left"
-        if is_one_of(word, self._right.words()):
-            return "right"
-        raise BadName(word)
+        if not is_one_of(word, self._owners):
+            raise BadName(word)
+        return self._owners[word]
 
     def setting(self, word):
         """The setting with this word."""

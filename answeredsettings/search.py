@@ -1,40 +1,15 @@
 """Which watched states can be come to, and by which weavings with the fewest moves."""
 
 from answeredsettings.boards import Board
-from answeredsettings.errors import BadState, TooMany
+from answeredsettings.errors import BadState
 from answeredsettings.pacts import check_pact
 from answeredsettings.shapes import has_watched_form
-
-LIMIT = 30000
+from answeredsettings.spaces import WatchedSpace, all_nodes, way_to
 
 
 def reached(board):
-    """A dict from all watched states that can be come to, the nearest first, to (state ahead, move).
-
-    The first state has None. TooMany is raised if there are more states than the limit.
-    """
-    came = {board.first: None}
-    waiting = [board.first]
-    at = 0
-    while at < len(waiting):
-        state = waiting[at]
-        for move, behind, _ in board.watched_steps(state):
-            if behind not in came:
-                came[behind] = (state, move)
-                waiting.append(behind)
-        if len(came) > LIMIT:
-            raise TooMany(LIMIT)
-        at += 1
-    return came
-
-
-def way_to(came, state):
-    """The weaving by which a state was come to."""
-    moves = []
-    while came[state] is not None:
-        state, move = came[state]
-        moves.append(move)
-    return moves[::-1]
+    """A dict from all watched states that can be come to, the nearest first, to (state ahead, move)."""
+    return all_nodes(WatchedSpace(board))
 
 
 def check_state(pact, state):

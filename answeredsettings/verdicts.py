@@ -5,7 +5,8 @@ from answeredsettings.checks import is_between, is_one_of, is_row
 from answeredsettings.errors import BadArgument, BadName
 from answeredsettings.fates import fate_of
 from answeredsettings.pacts import check_pact
-from answeredsettings.search import reached, way_to
+from answeredsettings.search import reached
+from answeredsettings.spaces import way_to
 
 
 def first_hearings(board, came):

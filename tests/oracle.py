@@ -73,6 +73,22 @@ class World:
             return self.used(word)
         return values[-1]
 
+    def made_by(self, word):
+        """The number of the change whose value the user has in use, None if it has the one that it answered last."""
+        user = OTHER[self.pact.owner(word)]
+        heard = [change for change in self.owed(user) if change["word"] == word and not change["refused"]]
+        return self.place(heard[-1]) if heard and self.pact.end(user).use(word) == "heard" else None
+
+    def rank(self, word, about):
+        """The place, counted from 1, of a change among those open at the owner; 0 if it is none of them."""
+        opened = [self.place(change) for change in self.opened(self.pact.owner(word))]
+        return opened.index(about) + 1 if about in opened else 0
+
+    def open_behind(self, word, about):
+        """How many changes of a setting are open that are younger than a change, or at all if it is none."""
+        numbers = [self.place(change) for change in self.opened(self.pact.owner(word)) if change["word"] == word]
+        return len([at for at in numbers if about is None or at > about])
+
     def credit(self, word):
         return self.sent_frames[word] - self.given_back[word]
 
@@ -151,6 +167,8 @@ class World:
             self.changes[about]["answer"] = letter[0]
         elif letter[0] == "frame" and self.pact.setting(letter[1]).kind == "room":
             self.sent_frames[letter[1]] += 1
+        elif letter[0] == "frame":
+            about = self.made_by(letter[1])
         elif letter[0] == "done":
             self.done_frames[letter[1]] += 1
         self.lanes[OTHER[name]].append((letter, about))
@@ -212,3 +230,53 @@ def explored(pact, most_moves=None, watched=True):
                     behind.append(other)
         layer = behind
     return known, verdicts
+
+
+class Heard:
+    """What is told of all hearings of frames to a setting: rows of (local state of the owner, place) and more."""
+
+    def __init__(self):
+        self.fewest, self.behind, self.by_local = {}, [], {}
+
+    def add(self, local, place, behind, count):
+        self.fewest.setdefault(place, count)
+        self.behind.append(behind)
+        self.by_local.setdefault(local, set()).add(place)
+
+    def least(self):
+        """The least M modulo which no two places of one local state are alike."""
+        found = [many for many in range(1, 9)
+                 if all(len({place % many for place in places}) == len(places) for places in self.by_local.values())]
+        return found[0] if self.by_local else None
+
+    def spread(self):
+        return max(self.behind, default=None)
+
+
+def marked(world, word):
+    """What tells worlds with frames to a setting under way apart: the state, and by what each frame was made."""
+    lane = world.lanes[world.pact.owner(word)]
+    return world.state(), tuple(world.rank(word, about) for letter, about in lane if letter[:2] == ("frame", word))
+
+
+def hearings(pact, word, most_frames=1, most_moves=None):
+    """All hearings of frames to a setting, with at most so many frames to it under way and none to other ones."""
+    told, known, layer, count = Heard(), set(), [World(pact)], 0
+    owner = pact.owner(word)
+    while layer and count != most_moves:
+        count += 1
+        behind = []
+        for world in layer:
+            for move in ordered_moves(world):
+                letter, about = (world.lanes[move[0]] + [(("none",), None)])[0]
+                if move == (owner, ("hear",)) and letter[:2] == ("frame", word):
+                    told.add(world.local(owner), world.rank(word, about), world.open_behind(word, about), count)
+                if move[1][0] == "frame" and move[1][1] != word and pact.setting(move[1][1]).kind != "room":
+                    continue
+                other = world.copied()
+                other.make(move)
+                if other.under_way() <= most_frames and marked(other, word) not in known:
+                    known.add(marked(other, word))
+                    behind.append(other)
+        layer = behind
+    return told

@@ -35,6 +35,21 @@ ODD = [
 
 BOTH_WAYS = [(1, 2), (2, 1)]
 
+# Local states of the example: the left one at the start and with another base, the right one at the start.
+START = ((1,), (), (), (), (), ())
+FAR = ((2,), (), (), (), (), ())
+USED = ((), (), (), (1,), (), ())
+# States of the example that cannot be come to, though they have the form.
+FAR_STATES = [
+    (FAR, USED, (), ()),
+    (FAR, USED, (), (("frame", "a", 2),)),
+    (((0,), (("a", 1, 1),), (), (), (), ()), ((), (), (("a", 1, 0),), (0,), (), ()), (("back",), ("back",)), ()),
+    (((0,), (("a", 2, 1),), (), (), (), ()), ((), (), (), (0,), (), ()), (("back",),), (("no",), ("frame", "a", 0))),
+    (((0,), (("a", 2, 0),), (), (), (), ()), ((), (), (), (0,), (), ()), (), (("answer",),)),
+]
+# No list and no tuple, or one with a value that is no watched state.
+NO_TABLES = [value for value in ODD if not isinstance(value, (list, tuple)) or len(value) > 0]
+
 
 def size(changes=BOTH_WAYS, hold="answered", many=3, start=1):
     return Setting("size", many, start, list(changes), hold)

@@ -23,6 +23,25 @@ EXAMPLES = '''
 >>> pact = Pact(owner, End({}, {"a": "heard"}, {}, 1))
 >>> [is_sound(pact), offences(pact), is_sound(pact.with_end("right", End({}, {"a": "answered"}, {}, 1)))]
 [False, [('a', 2, 1, 'refused')], True]
+
+>>> from answeredsettings.claims import against, holds
+>>> from answeredsettings.ends import End
+>>> from answeredsettings.pacts import Pact
+>>> from answeredsettings.settings import Setting
+>>> owner = End({"a": Setting("size", 3, 1, [(1, 2), (2, 1)], "answered")}, {}, {"back": []}, 1)
+>>> pact = Pact(owner, End({}, {"a": "heard"}, {}, 1))
+>>> [holds(pact, ("kept", "a")), len(against(pact, ("kept", "a"))), holds(pact, ("open", "left", 1))]
+[False, 4, True]
+
+>>> from answeredsettings.ends import End
+>>> from answeredsettings.marks import least_marks
+>>> from answeredsettings.pacts import Pact
+>>> from answeredsettings.settings import Setting
+>>> from answeredsettings.waits import greatest_wait
+>>> owner = End({"a": Setting("size", 3, 1, [(1, 2), (2, 1)], "answered")}, {}, {"back": []}, 1)
+>>> pact = Pact(owner, End({}, {"a": "heard"}, {}, 1))
+>>> [least_marks(pact, "a"), greatest_wait(pact, "left"), greatest_wait(pact, "right")]
+[2, 3, 0]
 '''
 
 
@@ -30,7 +49,7 @@ class ExamplesTest(unittest.TestCase):
     def test_examples(self):
         test = doctest.DocTestParser().get_doctest(EXAMPLES, {}, "examples", None, 0)
         told = doctest.DocTestRunner().run(test)
-        self.assertEqual((told.failed, told.attempted), (0, 16))
+        self.assertEqual((told.failed, told.attempted), (0, 31))
 
 
 if __name__ == "__main__":

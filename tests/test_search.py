@@ -3,7 +3,7 @@
 import unittest
 from unittest import mock
 
-from answeredsettings import search
+from answeredsettings import spaces
 from answeredsettings.ends import End
 from answeredsettings.errors import BadArgument, BadState, TooMany
 from answeredsettings.machine import Machine, played
@@ -324,9 +324,9 @@ class TooManyTest(unittest.TestCase):
         self.assertEqual(len(states(wide())), 26626)
 
     def test_just_as_many_as_the_limit(self):
-        with mock.patch.object(search, "LIMIT", 35):
+        with mock.patch.object(spaces, "LIMIT", 35):
             self.assertEqual(len(states(example())), 35)
-        with mock.patch.object(search, "LIMIT", 34):
+        with mock.patch.object(spaces, "LIMIT", 34):
             with self.assertRaises(TooMany):
                 states(example())
 
