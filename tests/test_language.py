@@ -56,6 +56,10 @@ INTERFACE = {
     "waits": {name: [] for name in (
         "stuck_states first_stuck fewest_to_answer lost_states first_lost greatest_wait".split())},
     "marks": {"places": [], "spread": [], "least_marks": [], "place_weaving": []},
+    "menus": {"taken_out": [], "let_in": [], "least_taken_out": [], "greatest_let_in": []},
+    "alike": {"are_alike": [], "first_parting": [], "alike_ends": []},
+    "counting": {"count_weavings": [], "count_shortest": [], "shortest_weavings": []},
+    "keeping": {"can_keep": [], "safe_sends": [], "kept_states": [], "forcing": []},
 }
 
 
