@@ -119,8 +119,11 @@ def small_pacts():
     found["no answers"] = one_way(size(), "heard", {}, {"answer": []})
     found["dones while open"] = one_way(room(), "heard", {"done": [(1, 0)]}, {})
     found["nothing"] = one_way(size(), "heard", {"set": [], "back": [], "done": []}, {"frame": [], "answer": []})
-    found["two ways"] = two_way()
-    found["two at one"] = two_at_one()
+    turned = one_way(table(), "heard")
+    found["turned about"] = Pact(turned.right, turned.left)
+    # Asking back is barred, or let only with one change open, so that fewer states are gone through.
+    for name, pact, pairs in (("two ways", two_way(), []), ("two at one", two_at_one(), [(1, 0)])):
+        found[name] = pact.with_end("left", pact.left.with_pairs("back", pairs))
     return found
 
 

@@ -370,13 +370,14 @@ class CallsTest(unittest.TestCase):
 
     def test_too_many(self):
         pact = self.huge()
-        for call in (lambda: are_alike(pact, "left", pact.left), lambda: first_parting(pact, "left", pact.left),
-                     lambda: alike_ends(pact, "left", [pact.left])):
-            with self.assertRaises(TooMany) as told:
-                call()
-            self.assertEqual(told.exception.limit, 30000)
+        with self.assertRaises(TooMany) as told:
+            are_alike(pact, "left", pact.left)
+        self.assertEqual(told.exception.limit, 30000)
         with self.assertRaises(BadArgument):
             alike_ends(pact, "left", [pact.left, pact.right])
+        # A parting that is met ahead of so many pairs is told all the same.
+        barred = pact.left.with_pairs("set", [])
+        self.assertEqual(len(first_parting(pact, "left", barred)), 1)
 
     def test_pairs_of_local_states_are_counted(self):
         # To 0 only 2 leads: a change that is not asked back hears no ("no",), so 1 never stands below an open 0.

@@ -192,6 +192,13 @@ class KeepTest(unittest.TestCase):
             safe = [row[0] for row in rows[state] if is_left_out(name, row) and row[1] not in broken]
             self.assertEqual(safe_sends(pact, name, claim, state), [] if state in broken else safe)
 
+    def test_all_states_that_are_never_to_come(self):
+        """Those with a frame behind another letter are what frames in the lane could hide, in either lane."""
+        for label in ("example", "turned about"):
+            for state in graph_of(label):
+                for name in NAMES:
+                    self.assert_told(PACTS[label], graph_of(label), name, ("never", state))
+
     def test_both_kinds_of_states_are_met(self):
         """The small pacts have claims that an end can keep though they do not hold, and ones that it cannot."""
         found = set()
