@@ -73,3 +73,15 @@ class WatchedSpace:
     def steps_from(self, state):
         """The steps of a watched state that lead to watched states."""
         return self.board.watched_steps(state)
+
+
+class BareSpace:
+    """All bare states of a pact."""
+
+    def __init__(self, board):
+        self.first = board.first
+        self.board = board
+
+    def steps_from(self, state):
+        """The steps of a bare state that lead to bare states."""
+        return self.board.bare_steps(state)

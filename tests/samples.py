@@ -102,6 +102,13 @@ def crowded():
     return Pact(left, right)
 
 
+def many_watched():
+    """A pact with more than 30000 watched states, but 6566 bare ones."""
+    left = End({"a": size([(1, 2), (2, 0), (2, 3)], "sent", 4)}, {"b": "heard"}, {}, 1)
+    right = End({"b": room([(1, 2), (2, 1)], "open")}, {"a": "answered"}, {"back": []}, 1)
+    return Pact(left, right)
+
+
 def small_pacts():
     """A dict of pacts with few states: each sort, hold and use, rules that bar deeds, one to three open changes."""
     found = {"example": example(), "no words": Pact(End({}, {}, {}, 1), End({}, {}, {}, 3))}

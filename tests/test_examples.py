@@ -34,6 +34,15 @@ EXAMPLES = '''
 [False, 4, True]
 
 >>> from answeredsettings.ends import End
+>>> from answeredsettings.forms import met_by_rows, rows_of
+>>> from answeredsettings.pacts import Pact
+>>> from answeredsettings.settings import Setting
+>>> owner = End({"a": Setting("size", 3, 1, [(1, 2), (2, 1)], "answered")}, {}, {"back": []}, 1)
+>>> pact = Pact(owner, End({}, {"a": "heard"}, {}, 1))
+>>> [rows_of(pact, "a"), met_by_rows(pact, "a")]
+[[(1,), (2,), (1, 2), (2, 1)], [(1, 1), (1, 2), (2, 1), (2, 2)]]
+
+>>> from answeredsettings.ends import End
 >>> from answeredsettings.marks import least_marks
 >>> from answeredsettings.pacts import Pact
 >>> from answeredsettings.settings import Setting
@@ -49,7 +58,7 @@ class ExamplesTest(unittest.TestCase):
     def test_examples(self):
         test = doctest.DocTestParser().get_doctest(EXAMPLES, {}, "examples", None, 0)
         told = doctest.DocTestRunner().run(test)
-        self.assertEqual((told.failed, told.attempted), (0, 31))
+        self.assertEqual((told.failed, told.attempted), (0, 38))
 
 
 if __name__ == "__main__":

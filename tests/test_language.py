@@ -37,8 +37,12 @@ NODES = (
     ast.AugAssign, ast.If, ast.While, ast.For, ast.Return, ast.Break, ast.Continue, ast.Pass, ast.Raise, ast.Expr,
     ast.Yield, ast.BoolOp, ast.BinOp, ast.UnaryOp, ast.IfExp, ast.Dict, ast.ListComp, ast.DictComp, ast.comprehension,
     ast.Compare, ast.Call, ast.keyword, ast.Constant, ast.Attribute, ast.Subscript, ast.Slice, ast.Name, ast.List,
-    ast.Tuple, ast.Load, ast.Store, ast.boolop, ast.operator, ast.unaryop, ast.cmpop, ast.Starred,
+    ast.Tuple, ast.Load, ast.Store, ast.boolop, ast.operator, ast.unaryop, ast.cmpop, ast.Starred, ast.JoinedStr,
+    ast.FormattedValue, ast.Try, ast.With, ast.withitem,
 )
+# What runs where nobody looks for a change: signs, comparisons, lengths, and attributes that are worked out.
+SILENT = "__eq__ __len__ __iter__ __getitem__ __contains__ __add__ __le__".split()
+CHANGING = set("append clear extend insert pop remove reverse setdefault update add discard sort".split())
 INTERFACE = {
     "errors": {name: ["__init__"] for name in (
         "BadArgument BadSetting BadEnd BadPact BadName BadDeed BadState BadMove BadScript BadNumber BadClaim BadChange "
@@ -60,6 +64,15 @@ INTERFACE = {
     "alike": {"are_alike": [], "first_parting": [], "alike_ends": []},
     "counting": {"count_weavings": [], "count_shortest": [], "shortest_weavings": []},
     "keeping": {"can_keep": [], "safe_sends": [], "kept_states": [], "forcing": []},
+    "forms": {name: [] for name in (
+        "rows_of met_by_rows fates_by_rows room_by_rows never_takes_back is_plain".split())},
+    "rooms": {"room_places": [], "most_held": [], "most_lost": []},
+    "halves": {
+        "Half": "__init__ pact name __getitem__ __contains__ __len__ __iter__ __add__ __le__ __eq__ fault verdicts".split(),
+        "half_of": [], "joins": []},
+    "notes": {name: [] for name in (
+        "write_setting write_end write_pact write_move write_weaving read_setting read_end read_pact read_move "
+        "read_weaving".split())},
 }
 
 
@@ -142,7 +155,7 @@ class LanguageTest(unittest.TestCase):
     def test_decorators_and_bases(self):
         for stem, node in walk((ast.FunctionDef, ast.ClassDef)):
             for decorator in node.decorator_list:
-                self.assertEqual(ast.unparse(decorator), "property", (stem, node.name))
+                self.assertIn(ast.unparse(decorator), ("property", f"{node.name}.setter"), (stem, node.name))
             if isinstance(node, ast.FunctionDef) and node.name.startswith("__"):
                 self.assertIn(node.name, DOUBLE, stem)
             self.assertEqual(node.name.startswith("_") and not node.name.startswith("__"), False, (stem, node.name))
@@ -203,7 +216,9 @@ class LanguageTest(unittest.TestCase):
             if name == "sorted":
                 words = [ast.unparse(word) for word in node.keywords]
                 self.assertIn(words, (["key=str"], ["key=int"]), (stem, node.lineno))
-            self.assertNotIn(name, ("min", "max", "sum", "iter", "next", "reversed", "set"), (stem, node.lineno))
+            self.assertNotIn(name, ("min", "max", "next", "reversed", "set"), (stem, node.lineno))
+            if name == "iter":
+                self.assertRegex(ast.unparse(node), r"\Aiter\(self\.[a-z_]+\)\Z", stem)
 
     def test_is_stands_beside_none_true_and_false(self):
         for stem, node in walk(ast.Compare):
@@ -215,6 +230,63 @@ class LanguageTest(unittest.TestCase):
         for stem, node in walk(ast.Raise):
             self.assertIsInstance(node.exc, ast.Call, (stem, node.lineno))
             self.assertIn(node.exc.func.id, INTERFACE["errors"], (stem, node.lineno))
+
+    def test_signs_and_properties_change_nothing(self):
+        functions = {}
+        for _, tree in walk((ast.Module, ast.ClassDef)):
+            for node in tree.body:
+                if isinstance(node, ast.FunctionDef):
+                    functions.setdefault(node.name, []).append(node)
+                elif isinstance(node, ast.ClassDef):
+                    functions.setdefault(node.name, []).extend(
+                        inside for inside in node.body if isinstance(inside, ast.FunctionDef) and inside.name == "__init__")
+        waiting = [node for name in functions for node in functions[name]
+                   if name in SILENT or [ast.unparse(decorator) for decorator in node.decorator_list] == ["property"]]
+        seen = []
+        while waiting:
+            node = waiting.pop()
+            if node not in seen:
+                seen.append(node)
+                self.assert_changes_nothing(node)
+                names = [inside.func for inside in ast.walk(node) if isinstance(inside, ast.Call)]
+                for name in names:
+                    waiting += functions.get(name.id if isinstance(name, ast.Name) else name.attr, [])
+        self.assertGreater(len(seen), 20)
+
+    def assert_changes_nothing(self, function):
+        made = [target.id for node in ast.walk(function) if isinstance(node, ast.Assign) for target in node.targets
+                if isinstance(target, ast.Name) and isinstance(node.value, (ast.List, ast.ListComp))]
+        for node in ast.walk(function):
+            if isinstance(node, (ast.Attribute, ast.Subscript)) and not isinstance(node.ctx, ast.Load):
+                # Only an object that is being made gets attributes.
+                self.assertEqual(function.name, "__init__", node.lineno)
+                self.assertRegex(ast.unparse(node), r"\Aself\.[a-z_]+\Z")
+            if isinstance(node, ast.Call) and isinstance(node.func, ast.Attribute) and node.func.attr in CHANGING:
+                self.assertIn(ast.unparse(node.func.value), made, (function.name, node.lineno))
+
+    def test_bytes_and_remainders(self):
+        """Where bytes are made, the left side of a remainder is plainly a number."""
+        for stem, node in walk(ast.BinOp):
+            if isinstance(node.op, ast.Mod):
+                self.assertRegex(ast.unparse(node.left), r"\A(int|len)\(.*\)\Z", (stem, node.lineno))
+
+    def test_what_ends_a_block_is_simple(self):
+        """What stands in a finally or in __exit__ are assignments of names and attributes alone."""
+        blocks = [node.finalbody for _, node in walk(ast.Try)]
+        blocks += [node.body[1:] for _, node in walk(ast.FunctionDef) if node.name == "__exit__"]
+        for block in blocks:
+            for node in block:
+                self.assertIsInstance(node, ast.Assign)
+                for inside in ast.walk(node):
+                    self.assertIsInstance(inside, (ast.Assign, ast.Name, ast.Attribute, ast.Tuple, ast.expr_context))
+        for stem, node in walk(ast.Try):
+            self.assertEqual(node.handlers, [], stem)
+
+    def test_texts_with_braces_are_plain(self):
+        for stem, node in walk(ast.FormattedValue):
+            self.assertEqual((node.conversion, node.format_spec), (-1, None), (stem, node.lineno))
+            for inside in ast.walk(node.value):
+                self.assertNotIsInstance(inside, (ast.Constant, ast.JoinedStr), (stem, node.lineno))
 
     def test_interface_is_defined_in_its_files(self):
         for stem, names in INTERFACE.items():
