@@ -1,6 +1,7 @@
 """Questions about any value that several modules ask."""
 
 LETTERS = "abcdefghijklmnopqrstuvwxyz"
+DIGITS = "0123456789"
 
 
 def is_integer(value):

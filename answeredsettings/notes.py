@@ -1,12 +1,11 @@
 """Texts of settings, ends, pacts, moves and weavings, and what such texts tell."""
 
-from answeredsettings.checks import is_one_of, is_word
+from answeredsettings.checks import DIGITS, is_one_of, is_word
 from answeredsettings.ends import DEEDS, End
 from answeredsettings.errors import BadText
 from answeredsettings.pacts import NAMES, Pact, check_pact
 from answeredsettings.settings import Setting
 
-DIGITS = "0123456789"
 BETWEEN_ENDS = "--"
 BETWEEN_MOVES = "; "
 # The kinds of letters with a word and a number, with a word alone, and with nothing behind them.

@@ -1,4 +1,4 @@
-"""The examples of the document, as far as their modules are there."""
+"""The examples of the document."""
 
 import doctest
 import unittest
@@ -51,6 +51,15 @@ EXAMPLES = '''
 >>> pact = Pact(owner, End({}, {"a": "heard"}, {}, 1))
 >>> [least_marks(pact, "a"), greatest_wait(pact, "left"), greatest_wait(pact, "right")]
 [2, 3, 0]
+
+>>> from answeredsettings.console import Console
+>>> from answeredsettings.ends import End
+>>> from answeredsettings.pacts import Pact
+>>> from answeredsettings.settings import Setting
+>>> owner = End({"a": Setting("size", 3, 1, [(1, 2), (2, 1)], "answered")}, {}, {"back": []}, 1)
+>>> pact = Pact(owner, End({}, {"a": "heard"}, {}, 1))
+>>> [Console(pact).say("offences"), Console(pact).say("try rule right frame 0,0 1,0"), Console(pact).say("moves left")]
+['(a 2 1 refused)', 'none', 'left set a 2']
 '''
 
 
@@ -58,7 +67,7 @@ class ExamplesTest(unittest.TestCase):
     def test_examples(self):
         test = doctest.DocTestParser().get_doctest(EXAMPLES, {}, "examples", None, 0)
         told = doctest.DocTestRunner().run(test)
-        self.assertEqual((told.failed, told.attempted), (0, 38))
+        self.assertEqual((told.failed, told.attempted), (0, 45))
 
 
 if __name__ == "__main__":

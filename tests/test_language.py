@@ -19,7 +19,7 @@ BUILTINS = set(
 METHODS = set(
     "append clear copy count endswith extend find get index insert isalnum isalpha isdigit islower isspace isupper items "
     "join keys ljust lower lstrip partition pop remove replace reverse rfind rjust rpartition rsplit rstrip setdefault "
-    "split splitlines startswith strip update upper values zfill bit_length".split()
+    "split splitlines startswith strip update upper values zfill bit_length encode decode".split()
 )
 DOUBLE = set("__init__ __eq__ __len__ __call__ __iter__ __getitem__ __contains__ __add__ __le__ __enter__ __exit__".split())
 NOWHERE = set("register mro elements open input law version_info with_traceback add_note".split())
@@ -70,6 +70,12 @@ INTERFACE = {
     "halves": {
         "Half": "__init__ pact name __getitem__ __contains__ __len__ __iter__ __add__ __le__ __eq__ fault verdicts".split(),
         "half_of": [], "joins": []},
+    "values": {"write_value": [], "read_value": []},
+    "wires": {"pack": [], "unpack": [], "Wire": "__init__ send feed kept".split()},
+    "sessions": {
+        "Session": "__init__ present put rule undo __len__ file standing offences attempt trying".split()},
+    "console": {"Console": "__init__ say".split()},
+    "papers": {"wait_paper": [], "is_wait_paper": []},
     "notes": {name: [] for name in (
         "write_setting write_end write_pact write_move write_weaving read_setting read_end read_pact read_move "
         "read_weaving".split())},
@@ -184,6 +190,9 @@ class LanguageTest(unittest.TestCase):
                 functions = node.body if isinstance(node, ast.ClassDef) else [node]
                 for function in functions:
                     own = set(bound_names(function)) - {"_"} if isinstance(function, ast.FunctionDef) else set()
+                    # A setter stands behind its property, and names it.
+                    own |= {name.id for decorator in getattr(function, "decorator_list", []) for name in ast.walk(decorator)
+                            if isinstance(name, ast.Name)}
                     for name in ast.walk(function):
                         if isinstance(name, ast.Name) and isinstance(name.ctx, ast.Load):
                             self.assertIn(name.id, known | own, (stem, name.lineno))
@@ -193,13 +202,16 @@ class LanguageTest(unittest.TestCase):
         stored = {node.attr for _, node in walk(ast.Attribute) if isinstance(node.ctx, ast.Store)}
         decorated = {node.name for _, node in walk(ast.FunctionDef) if node.decorator_list}
         inside = {node.name for _, tree in walk(ast.ClassDef) for node in tree.body if isinstance(node, ast.FunctionDef)}
-        self.assertEqual(stored & inside, set())
+        setters = {node.name for _, node in walk(ast.FunctionDef) for decorator in node.decorator_list
+                   if isinstance(decorator, ast.Attribute)}
+        self.assertEqual(stored & inside, setters)
         self.assertEqual(stored & METHODS, set())
         for stem, node in walk(ast.Attribute):
-            self.assertIn(node.attr, stored | inside | METHODS, (stem, node.lineno))
+            self.assertIn(node.attr, stored | inside | METHODS | {"setter"}, (stem, node.lineno))
         for stem, node in walk(ast.Call):
             if isinstance(node.func, ast.Attribute):
-                self.assertIn(node.func.attr, (methods - decorated) | METHODS, (stem, node.lineno))
+                # A machine is an object that is called.
+                self.assertIn(node.func.attr, (methods - decorated) | METHODS | {"machine"}, (stem, node.lineno))
 
     def test_words_and_strings(self):
         for stem, path in FILES.items():
