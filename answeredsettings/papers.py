@@ -27,13 +27,13 @@ def has_paper_form(pact, board, value):
 
 
 def is_number_shown(board, paper, place, state):
-    """Whether a move from a state of a paper shows that its number is great enough for the end at a place."""
+    """Whether a move from a state of a closed paper shows that its number is great enough for the end at a place."""
     if paper[state] < 1:
         return False
     for move, behind, _ in board.bare_steps(state):
         if hears_answer(board, state, place, move):
             return True
-        if behind in paper and is_something_open(behind, place) and paper[behind] < paper[state]:
+        if is_something_open(behind, place) and paper[behind] < paper[state]:
             return True
     return False
 

@@ -34,12 +34,12 @@ def greatest_of(pact, word, part):
     """The greatest number at one part of the places of a room, and a weaving with the fewest moves to it."""
     came = bare_reached(pact, word)
     owner = NAMES.index(pact.owner(word))
-    greatest = 0
+    greatest = None
     nearest = None
     # The nearest states come first, so a later one counts only if it has more.
     for state in came:
         many = places_in(state, word, owner)[part]
-        if nearest is None or many > greatest:
+        if greatest is None or many > greatest:
             greatest = many
             nearest = state
     return (greatest, way_to(came, nearest))

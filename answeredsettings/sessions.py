@@ -11,8 +11,6 @@ class Trial:
 
     def __init__(self, session):
         self._session = session
-        self._now = session._now
-        self._past = session._past
 
     def __enter__(self):
         self._now = self._session._now
@@ -61,7 +59,8 @@ class Session:
     def file(self, claim, table):
         """Put a claim on file, with a table that shows it."""
         pact, filed = self._now
-        if not is_claim(pact, claim) or not is_shown(pact, table, claim):
+        # A value that is no claim at all is found out here, too.
+        if not is_shown(pact, table, claim):
             raise BadClaim(claim)
         others = [row for row in filed if row[0] != claim]
         self.step_to(pact, tuple(others + [(claim, tuple(table))]))

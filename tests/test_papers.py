@@ -189,6 +189,11 @@ class PaperTest(unittest.TestCase):
         self.assertIs(is_wait_paper(pact, paper + [(framed[0], 0)], "left", 3), False)
         self.assertIs(is_wait_paper(pact, [(state, 3) for state in states(pact)], "left", 3), False)
         self.assertTrue(any(("frame", "a", 0) in state[3] for state, _ in wait_paper(PACTS["room sent heard"], "left")))
+        # All watched states, with right numbers and closed under the moves that are no sends of such frames.
+        rows = {state: [row for row in stepping.steps(pact, state) if not stepping.is_watched(pact, row[0][1])]
+                for state in states(pact)}
+        numbers = answered_within(rows, "left")
+        self.assertIs(is_wait_paper(pact, [(state, numbers.get(state, 0)) for state in rows], "left", 9), False)
 
     def test_a_great_pact(self):
         for name in NAMES:
