@@ -3,9 +3,8 @@
 from answeredsettings.ends import DEEDS
 from answeredsettings.errors import NoRow
 from answeredsettings.machine import Machine
-from answeredsettings.notes import (
-    are_two_digits, read_move, read_pact, two_numbers, write_move, write_pact, write_weaving,
-)
+from answeredsettings.notes import are_two_digits, two_numbers
+from answeredsettings.notes import read_move, read_pact, write_move, write_pact, write_weaving
 from answeredsettings.pacts import NAMES
 from answeredsettings.sessions import Session
 from answeredsettings.values import write_value
